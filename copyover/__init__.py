@@ -1,0 +1,1 @@
+"""Copyover: folders that are copied over one another."""

@@ -1,0 +1,219 @@
+"""Values and checks that several tests use."""
+
+import copy
+import itertools
+import unittest
+
+from copyover.errors import CopyError
+
+FOLDERS = ("a", "b", "c")
+TURN = (("over", "a", "c"), ("over", "b", "a"), ("over", "c", "b"))
+CONTENTS = {"a": {"x": "1"}, "b": {"x": "2", "y": "3"}, "c": {}}
+
+TWENTY = tuple("abcdefghijklmnopqrst")
+TWENTY_ONE = TWENTY + ("u",)
+
+PATH_SIGNS = "abcdefghijklmnopqrstuvwxyz0123456789./"
+LONG_PATH = "a/b.c0123456789wxyz9"
+# The neighbours of a to z, 0 to 9, "." and "/", and letters and digits that other alphabets have.
+STRANGE_SIGNS = ("A", "Z", "`", "{", ":", "-", " ", "\n", "_", "%", "~", "\\", "\t", "\x00",
+                 "\u00e9", "\u00df", "\u00aa", "\u0430", "\uff41", "\u00b2", "\u0663", "\u2170")
+WRONG_NAMES = (["", "abcdefghi", "a" * 300, "a\n", "\na", "a b", " a", "a ", "aB", "A", "a1", "1", "a.", "a/b"]
+               + list(STRANGE_SIGNS) + ["a" + sign for sign in STRANGE_SIGNS])
+
+
+class Agreeable:
+    """Says of itself that it equals everything."""
+
+    def __eq__(self, other):
+        return True
+
+    def __ne__(self, other):
+        return False
+
+    def __hash__(self):
+        return hash("a")
+
+
+class Unhashable:
+    """Equals everything and cannot be a key."""
+
+    __hash__ = None
+
+    def __eq__(self, other):
+        return True
+
+
+def deep(levels, make):
+    """Return an empty value nested so many levels deep."""
+    value = make([])
+    for _ in range(levels - 1):
+        value = make([value])
+    return value
+
+
+def odd_values():
+    """Return values of all kinds, none of which is folders, a copy, contents, or a name of FOLDERS."""
+    return [
+        None, True, False, 0, 1, -7, 10 ** 59, "", "A", "ab ", "over", "skip", "x" * 3000, "a\nb",
+        b"", b"a", b"over", [], {}, set(), {"a"}, frozenset(("a", "b")), object(), Agreeable(), Unhashable(),
+        str, len, range(3), iter(()), NotImplemented, [None], (None,), {None: None}, {"a": None}, {"a": []},
+        {1: {}}, {(): {}}, {b"a": {}}, ["a"], ["a", "b", "c"], ("a", "a"), ("a", 1), ("a", True), ("a", None),
+        (b"a",), (["a"],), (("a",),), ({"a": 1},), ({"a"},), (Agreeable(),), (Unhashable(),), [("over", "a", "b")],
+        deep(20, tuple), deep(20, list), deep(20, lambda parts: dict.fromkeys(["a"] * len(parts), *parts)),
+    ]
+
+
+def wrong_folders():
+    """Return values that are not folders."""
+    tuples = [(), ("a", "b", "a"), ("b", "b"), TWENTY_ONE, ("a", ""), ("a", "b", ["c"]), ("a", "b", ("c",)),
+              ("a", Agreeable()), ("a", Unhashable()), ("a",) * 20]
+    names = [("a", name) for name in WRONG_NAMES] + [(name,) for name in WRONG_NAMES]
+    others = ["a", "abc", "c", {"a": 1}, {"a": {}}, list(FOLDERS), set(FOLDERS), iter(FOLDERS), b"abc"]
+    return odd_values() + tuples + names + others
+
+
+def wrong_copies():
+    """Return values that are not copies."""
+    return odd_values() + [
+        (), ("over",), ("over", "a"), ("over", "a", "b", "c"), ("over", "a", "b", None), ("a", "b"), ("a", "b", "c"),
+        ["over", "a", "b"], "over", "oab", ("over", "a", "a"), ("skip", "b", "b"), ("skip", "abcdefgh", "abcdefgh"),
+        ("Over", "a", "b"), ("OVER", "a", "b"), ("over ", "a", "b"), ("over\n", "a", "b"), ("ove", "a", "b"),
+        ("", "a", "b"), ("o", "a", "b"), (">", "a", "b"), ("+", "a", "b"), (b"over", "a", "b"),
+        (None, "a", "b"), (True, "a", "b"), (0, "a", "b"), (["over"], "a", "b"), (("over",), "a", "b"),
+        ({"over": 1}, "a", "b"), (("over", "skip"), "a", "b"), (Agreeable(), "a", "b"), (Unhashable(), "a", "b"),
+        ("over", None, "b"), ("over", "a", None), ("over", 1, "b"), ("over", "a", True), ("over", b"a", "b"),
+        ("over", "a", b"b"), ("over", ["a"], "b"), ("over", "a", ["b"]), ("over", ("a",), "b"), ("over", "a", {"b": 1}),
+        ("over", Agreeable(), "b"), ("over", "a", Agreeable()), ("over", "a", Unhashable()), ("a", "over", "b"),
+        ("a", "b", "over"), (("over", "a", "b"),), {"over": 1, "a": 2, "b": 3}, {"over", "a", "b"},
+        iter(("over", "a", "b")),
+    ] + [("over", name, "b") for name in WRONG_NAMES] + [("skip", "a", name) for name in WRONG_NAMES]
+
+
+def wrong_scripts():
+    """Return values that are not scripts."""
+    good = ("over", "a", "b")
+    return odd_values() + [
+        good, [good], [], {good: 1}, {good}, frozenset((good,)), iter((good,)), "a>b", "", (good,) * 201,
+        (good,) * 300, ((good,),), ([good],), (list(good),), (good, list(good)), (good, good[:2]), (good, ()),
+        (good, None), (None, good), (good, (good,)), good + (good,),
+    ] + [(good, value) for value in wrong_copies()] + [(value, good) for value in wrong_copies()]
+
+
+def foreign_scripts():
+    """Return scripts that are none of FOLDERS, since they copy other folders."""
+    return [(("over", "a", "d"),), (("over", "d", "a"),), (("skip", "x", "y"),), (("skip", "a", "aa"),),
+            TURN + (("over", "b", "d"),), (("over", "d", "b"),) + TURN,
+            (("over", "a", "b"),) * 199 + (("skip", "d", "c"),)]
+
+
+def wrong_paths():
+    """Return values that are not paths."""
+    strings = ["", LONG_PATH + "1", "a" * 21, "a" * 300, "x\n", "\nx", "x y", " x", "x ", "X"] + list(STRANGE_SIGNS)
+    return strings + ["x" + sign for sign in STRANGE_SIGNS] + [None, 0, True, b"x", (), ("x",), Agreeable()]
+
+
+def wrong_contents():
+    """Return values that are not contents."""
+    texts = [None, 0, 1, True, b"1", [], ["1"], ("1",), {}, {"1"}, object(), Agreeable(), Unhashable()]
+    files = [None, 0, True, "", "x", b"", [], ["x"], [("x", "1")], (), ("x",), (("x", "1"),), {"x"}, set(), object(),
+             Agreeable(), Unhashable(), many_files(41), many_files(300), iter({})]
+    return odd_values() + [
+        {}, (), [("a", {})], (("a", {}),), ("a",), "a", {name: {} for name in TWENTY_ONE},
+        {"a": {}, "b": {}, "c": {}, 1: {}}, {True: {}}, {None: {}}, {("a",): {}}, {Agreeable(): {}},
+    ] + [{name: {}} for name in WRONG_NAMES] + [{"a": {}, name: {}} for name in WRONG_NAMES] + [
+        {"a": {"x": text}} for text in texts] + [{"a": {}, "b": {"y": "1", "x": text}} for text in texts] + [
+        {"a": value} for value in files] + [{"a": {}, "b": value, "c": {}} for value in files] + [
+        {"a": {path: "1"}} for path in wrong_paths()] + [{"a": {}, "b": {"x": "", path: "1"}} for path in wrong_paths()]
+
+
+def wrong_of_folders():
+    """Return values that are not one of FOLDERS."""
+    return odd_values() + ["d", "ab", "abc", "aa", "A", "a ", "a\n", "", (), ("a",), ["a"], {"a": 1}, b"a", FOLDERS]
+
+
+def wrong_having():
+    """Return values that are not a tuple of different ones of FOLDERS."""
+    return odd_values() + [
+        "", "a", "abc", [], ["a"], {}, {"a": 1}, {"a"}, set(), frozenset(("a",)), iter(("a",)), None,
+        ("d",), ("a", "d"), ("d", "a"), ("a", "a"), ("a", "b", "c", "a"), ("ab",), ("",), ("A",),
+        ("a", "a\n"), (FOLDERS,), (["a"],), ("a", "b", None), (b"a",), FOLDERS + ("d",),
+    ]
+
+
+def many_files(number):
+    """Return so many files of a folder."""
+    return {f"f{index}": f"text {index}" for index in range(number)}
+
+
+def all_copies(folders):
+    """Return all copies of some folders."""
+    return [(word, source, target) for word in ("over", "skip")
+            for source, target in itertools.permutations(folders, 2)]
+
+
+def all_scripts(folders, length):
+    """Return all scripts of some folders with so many copies or fewer."""
+    return [script for number in range(length + 1)
+            for script in itertools.product(all_copies(folders), repeat=number)]
+
+
+class Numbers:
+    """Numbers without a pattern, the same ones in each run."""
+
+    def __init__(self, start):
+        self.state = start
+
+    def below(self, limit):
+        self.state = (self.state * 6364136223846793005 + 1442695040888963407) % 2 ** 64
+        return (self.state >> 33) % limit
+
+    def script(self, folders, length):
+        copies = all_copies(folders)
+        return tuple(copies[self.below(len(copies))] for _ in range(length))
+
+
+def telling_all(folders):
+    """Return contents that have a path for each choice of one or more folders that have it."""
+    groups = [group for size in range(1, len(folders) + 1) for group in itertools.combinations(sorted(folders), size)]
+    return {name: {path_of(group): name for group in groups if name in group} for name in folders}
+
+
+def path_of(group):
+    """Return the path that exactly a group has in telling_all."""
+    return ".".join(group)
+
+
+def copied(contents, script):
+    """Return the contents behind a script, made by copying file by file."""
+    now = copy.deepcopy(contents)
+    for word, source, target in script:
+        for path in now[source]:
+            if word == "over" or path not in now[target]:
+                now[target][path] = now[source][path]
+    return now
+
+
+def inner(value):
+    """Return a list or dict and all lists and dicts within it."""
+    if isinstance(value, dict):
+        return [value] + [part for item in value.values() for part in inner(item)]
+    if isinstance(value, (list, tuple)):
+        return ([value] if isinstance(value, list) else []) + [part for item in value for part in inner(item)]
+    return []
+
+
+class Case(unittest.TestCase):
+    """A test case with the checks that several tests use."""
+
+    def check_raises(self, error, function, *values, **named):
+        """Check that a call raises an error of exactly one class."""
+        with self.assertRaises(CopyError, msg=f"{function.__name__} {values!r:.300} {named!r:.300}") as caught:
+            function(*values, **named)
+        self.assertIs(type(caught.exception), error, f"{function.__name__} {values!r:.300} {named!r:.300}")
+
+    def check_ascending(self, value):
+        """Check that a dict and each dict within it have ascending keys."""
+        for part in inner(value):
+            if isinstance(part, dict):
+                self.assertEqual(list(part), sorted(part))

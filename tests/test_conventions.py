@@ -1,0 +1,210 @@
+"""The conventions [2, 3] and the beginning of the interface, for each function."""
+
+import copy
+import importlib
+import inspect
+import itertools
+import unittest
+
+from copyover.errors import CopyError, InvalidContents, InvalidCopy, InvalidFolders, InvalidHaving, InvalidName
+from copyover.errors import InvalidScript
+from tests.helper import (CONTENTS, FOLDERS, TURN, TWENTY, Case, foreign_scripts, inner, wrong_contents, wrong_copies,
+                          wrong_folders, wrong_having, wrong_of_folders, wrong_scripts)
+
+# The good values of each parameter of FOLDERS, and a few wrong ones with the error that they raise.
+GOOD = {
+    "folders": FOLDERS, "copies": TURN, "other": TURN[::-1], "name": "b", "having": ("c", "b"), "contents": CONTENTS,
+    "copy": ("over", "a", "c"), "other_copy": ("skip", "b", "c"), "value": CONTENTS,
+}
+WRONG = {
+    "folders": (InvalidFolders, wrong_folders), "copies": (InvalidScript, wrong_scripts),
+    "other": (InvalidScript, wrong_scripts), "name": (InvalidName, wrong_of_folders),
+    "having": (InvalidHaving, wrong_having), "contents": (InvalidContents, wrong_contents),
+    "copy": (InvalidCopy, wrong_copies), "other_copy": (InvalidCopy, wrong_copies),
+}
+INTERFACE = {
+    "copies": {
+        "is_copy": ("value",), "is_script": ("value",), "lists_of": ("folders", "copies"),
+        "list_of": ("folders", "copies", "name"), "heads_of": ("folders", "copies"),
+    },
+    "contents": {
+        "are_contents": ("value",), "run": ("contents", "copies"), "winner": ("folders", "copies", "name", "having"),
+    },
+    "alike": {
+        "do_same": ("folders", "copies", "other"), "telling_contents": ("folders", "copies", "other"),
+        "commute": ("copy", "other_copy"),
+    },
+}
+
+
+def functions():
+    """Return each function of the interface with its parameters."""
+    found = []
+    for module, names in INTERFACE.items():
+        for name, parameters in names.items():
+            found.append((getattr(importlib.import_module(f"copyover.{module}"), name), parameters))
+    return found
+
+
+def good_values(parameters):
+    """Return new good values of some parameters."""
+    return [copy.deepcopy(GOOD[parameter]) for parameter in parameters]
+
+
+class Interface(Case):
+    def test_each_function_is_defined_in_its_file(self):
+        for module, names in INTERFACE.items():
+            for name in names:
+                function = getattr(importlib.import_module(f"copyover.{module}"), name)
+                self.assertTrue(inspect.isfunction(function))
+                self.assertEqual((function.__name__, function.__module__), (name, f"copyover.{module}"))
+
+    def test_names_of_the_parameters(self):
+        for function, parameters in functions():
+            self.assertEqual(tuple(inspect.signature(function).parameters), parameters)
+
+    def test_by_position_and_by_name(self):
+        for function, parameters in functions():
+            values = good_values(parameters)
+            answer = function(*values)
+            named = dict(zip(parameters, values))
+            self.assertEqual(function(**named), answer)
+            self.assertEqual(function(**dict(reversed(named.items()))), answer)
+            for many in range(len(values)):
+                rest = {parameter: named[parameter] for parameter in parameters[many:]}
+                self.assertEqual(function(*values[:many], **rest), answer)
+
+
+class Arguments(Case):
+    def test_stay_as_they_are(self):
+        for function, parameters in functions():
+            values = good_values(parameters)
+            before = repr(values)
+            function(*values)
+            self.assertEqual(repr(values), before)
+
+    def test_stay_as_they_are_behind_an_error(self):
+        for function, parameters in functions():
+            for parameter in parameters:
+                if parameter == "value":
+                    continue
+                values = good_values(parameters)
+                values[parameters.index(parameter)] = {"a": {"y": "1", "x": []}}
+                before = repr(values)
+                self.assertRaises(CopyError, function, *values)
+                self.assertEqual(repr(values), before)
+                values[parameters.index(parameter)] = copy.deepcopy(GOOD[parameter])
+                self.assertEqual(function(*values), function(*good_values(parameters)))
+
+    def test_no_part_of_an_argument_is_returned(self):
+        for function, parameters in functions():
+            values = good_values(parameters)
+            parts = [id(part) for value in values for part in inner(value)]
+            self.assertFalse([part for part in inner(function(*values)) if id(part) in parts])
+
+    def test_contents_that_are_changed_later(self):
+        run = importlib.import_module("copyover.contents").run
+        for script in ((), TURN, (("over", "b", "c"),), (("skip", "a", "c"),)):
+            contents = copy.deepcopy(CONTENTS)
+            behind = run(contents, script)
+            kept = copy.deepcopy(behind)
+            for files in contents.values():
+                files["new"] = "9"
+            contents["d"] = {}
+            self.assertEqual(behind, kept)
+            self.assertEqual(run(CONTENTS, script), kept)
+            for files in behind.values():
+                files["newer"] = "8"
+            self.assertEqual(contents["a"], {"x": "1", "new": "9"})
+
+
+class Results(Case):
+    def test_equal_calls_return_equal_and_new_results(self):
+        for function, parameters in functions():
+            values = good_values(parameters)
+            first, second, third = function(*values), function(*values), function(*good_values(parameters))
+            self.assertEqual(repr(first), repr(second))
+            self.assertEqual(repr(first), repr(third))
+            parts = inner(first) + inner(second) + inner(third)
+            self.assertEqual(len({id(part) for part in parts}), len(parts), function.__name__)
+
+    def test_results_that_are_changed_later(self):
+        for function, parameters in functions():
+            first = function(*good_values(parameters))
+            kept = copy.deepcopy(first)
+            for part in inner(first):
+                part.clear()
+            self.assertEqual(function(*good_values(parameters)), kept)
+
+    def test_inner_lists_and_dicts_are_different_ones(self):
+        module = importlib.import_module("copyover.copies")
+        for script in ((), (("over", "a", "b"), ("over", "a", "c")), (("over", "a", "b"), ("skip", "b", "a")) * 2):
+            lists = module.lists_of(FOLDERS, script)
+            self.assertEqual(len({id(names) for names in lists.values()}), 3)
+            lists["b"].append("z")
+            self.assertNotIn("z", lists["a"] + lists["c"])
+        run = importlib.import_module("copyover.contents").run
+        contents = dict.fromkeys(TWENTY, {"x": "1"})
+        for script in ((), (("over", "a", "b"), ("skip", "b", "c"))):
+            self.assertEqual(len({id(files) for files in run(contents, script).values()}), 20)
+        telling = importlib.import_module("copyover.alike").telling_contents
+        self.assertEqual(len({id(files) for files in telling(TWENTY, TURN, ()).values()}), 20)
+
+    def test_keys_ascend(self):
+        for function, parameters in functions():
+            values = dict(zip(parameters, good_values(parameters)))
+            if "folders" in values:
+                values["folders"] = ("zz", "c", "aa", "b", "a", "ab")
+            if "contents" in values:
+                values["contents"] = {"zz": {"y": "1", "x": "2"}, "b": {"x": "3"}, "a": {}, "c": {"z": "4", "b": "5"}}
+            self.check_ascending(function(**values))
+
+    def test_good_values_raise_no_error_somewhat_beyond_the_limits(self):
+        module = importlib.import_module("copyover.contents")
+        contents = {"a": {"x": "t" * 10000}, "b": {}}
+        self.assertEqual(module.run(contents, (("skip", "a", "b"),)), {"a": contents["a"], "b": contents["a"]})
+
+
+class Errors(Case):
+    def test_each_wrong_argument(self):
+        for function, parameters in functions():
+            for place, parameter in enumerate(parameters):
+                if parameter == "value":
+                    continue
+                error, make = WRONG[parameter]
+                for value in make():
+                    values = good_values(parameters)
+                    values[place] = value
+                    self.check_raises(error, function, *values)
+                    self.check_raises(error, function, **dict(zip(parameters, values)))
+
+    def test_scripts_of_other_folders(self):
+        for function, parameters in functions():
+            for place, parameter in enumerate(parameters):
+                if parameter not in ("copies", "other"):
+                    continue
+                for script in foreign_scripts():
+                    values = good_values(parameters)
+                    values[place] = script
+                    self.check_raises(InvalidScript, function, *values)
+
+    def test_the_first_of_two_wrong_arguments(self):
+        for function, parameters in functions():
+            for first, second in itertools.combinations(range(len(parameters)), 2):
+                error, make = WRONG[parameters[first]]
+                _, make_other = WRONG[parameters[second]]
+                for value, other in itertools.product(make()[::25], make_other()[::25]):
+                    values = good_values(parameters)
+                    values[first], values[second] = value, other
+                    self.check_raises(error, function, *values)
+
+    def test_all_arguments_wrong(self):
+        for function, parameters in functions():
+            if parameters == ("value",):
+                continue
+            for wrong in (None, 0, True, "", b"", ["a"], {1}, object()):
+                self.check_raises(WRONG[parameters[0]][0], function, *[wrong] * len(parameters))
+
+
+if __name__ == "__main__":
+    unittest.main()
