@@ -1,6 +1,6 @@
-"""Checks of names and folders, for all modules."""
+"""Checks of names, folders, lists and integers, for all modules."""
 
-from copyover.errors import InvalidFolders, InvalidName
+from copyover.errors import InvalidFolders, InvalidLists, InvalidName
 
 LONGEST_NAME = 8
 MOST_FOLDERS = 20
@@ -27,11 +27,36 @@ def is_one_of(value, folders):
     return isinstance(value, str) and value in folders
 
 
+def are_different(names, folders):
+    """Return whether the members of a list or tuple are different ones of the folders."""
+    return all([is_one_of(name, folders) for name in names]) and len(set(names)) == len(names)
+
+
 def are_some_of(value, folders):
     """Return whether a value is a tuple of none or more different ones of the folders."""
-    if not isinstance(value, tuple) or not all([is_one_of(name, folders) for name in value]):
+    return isinstance(value, tuple) and are_different(value, folders)
+
+
+def is_list_of(value, name, folders):
+    """Return whether a value is a list of different folders with the one of this name among them."""
+    return isinstance(value, list) and are_different(value, folders) and name in value
+
+
+def has_names(value):
+    """Return whether a value is a dict that has 1 to 20 names as its keys."""
+    if not isinstance(value, dict) or not 1 <= len(value) <= MOST_FOLDERS:
         return False
-    return len(set(value)) == len(value)
+    return all([is_name(name) for name in value])
+
+
+def are_lists(value):
+    """Return whether a value is lists."""
+    return has_names(value) and all([is_list_of(names, name, value) for name, names in value.items()])
+
+
+def is_whole(value, least, most):
+    """Return whether a value is an integer from least to most."""
+    return isinstance(value, int) and not isinstance(value, bool) and least <= value <= most
 
 
 def check_folders(folders):
@@ -44,3 +69,9 @@ def check_name(name, folders):
     """Raise InvalidName if a value is not one of the folders."""
     if not is_one_of(name, folders):
         raise InvalidName("the name is not one of the folders")
+
+
+def check_lists(lists):
+    """Raise InvalidLists if a value is not lists."""
+    if not are_lists(lists):
+        raise InvalidLists("lists are a dict from 1 to 20 folders to lists of different ones with their own")

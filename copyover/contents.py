@@ -1,6 +1,6 @@
 """The files of the folders, and whose file is where behind a script."""
 
-from copyover.checks import MOST_FOLDERS, are_some_of, is_name
+from copyover.checks import are_some_of, has_names
 from copyover.copies import check_script, list_of
 from copyover.errors import InvalidContents, InvalidHaving
 
@@ -25,9 +25,7 @@ def are_files(value):
 
 def are_contents(value):
     """Return whether a value is contents."""
-    if not isinstance(value, dict) or not 1 <= len(value) <= MOST_FOLDERS:
-        return False
-    return all([is_name(name) and are_files(files) for name, files in value.items()])
+    return has_names(value) and all([are_files(files) for files in value.values()])
 
 
 def sorted_files(files):

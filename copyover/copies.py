@@ -37,17 +37,27 @@ def joined_behind(ahead, behind):
     return ahead + [name for name in behind if name not in ahead]
 
 
+def first_lists(folders):
+    """Return the lists that the folders have at first."""
+    return {name: [name] for name in sorted(folders)}
+
+
+def lists_behind(lists, copies):
+    """Return the lists behind further copies; where no copy changes one, it is the same list as before."""
+    now = dict(lists)
+    for word, source, target in copies:
+        if word == "over":
+            now[target] = joined_behind(now[source], now[target])
+        else:
+            now[target] = joined_behind(now[target], now[source])
+    return now
+
+
 def lists_of(folders, copies):
     """Return the lists of all folders behind a script."""
     check_folders(folders)
     check_script(copies, folders)
-    lists = {name: [name] for name in sorted(folders)}
-    for word, source, target in copies:
-        if word == "over":
-            lists[target] = joined_behind(lists[source], lists[target])
-        else:
-            lists[target] = joined_behind(lists[target], lists[source])
-    return lists
+    return lists_behind(first_lists(folders), copies)
 
 
 def list_of(folders, copies, name):

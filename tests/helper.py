@@ -141,6 +141,66 @@ def wrong_having():
     ]
 
 
+def lists_of_names(names):
+    """Return the lists that some folders have at first."""
+    return {name: [name] for name in names}
+
+
+def wrong_lists():
+    """Return values that are not lists."""
+    own = [None, 0, True, "", "a", "ab", b"a", (), ("a",), ("a", "b"), {}, {"a": 1}, {"a"}, iter(("a",)), [], ["b"],
+           ["b", "c"], ["a", "a"], ["a", "b", "a"], ["b", "b", "a"], ["a", "d"], ["d", "a"], ["a", None], ["a", 1],
+           ["a", b"b"], ["a", "B"], ["a", ""], ["a", ["b"]], [["a"]], [("a",)], ["a", ("b", "c")], ["a", {"b": 1}],
+           ["ab"], [None], [True], [1], object(), Agreeable(), Unhashable(), [Agreeable()], ["a", Agreeable()],
+           ["a", Unhashable()], ["a", "b", "c", "b"], ["a", "b", "c", "d"], ["a"] * 300]
+    keys = WRONG_NAMES + [1, True, None, b"d", ("d",), (), Agreeable()]
+    return odd_values() + [
+        {}, [], (), "", [["a"]], [("a", ["a"])], (("a", ["a"]),), FOLDERS, ["a"], "a: a", lists_of_names(TWENTY_ONE),
+        {"a": ["a"], "b": ["a"]}, {"a": ["a"], "b": []}, {"a": ["b"], "b": ["a"]}, {"a": ["b", "a"]},
+        {"a": [["a"]], "b": ["b"]}, {"a": {"a": ["a"]}},
+    ] + [{"a": value, "b": ["b"], "c": ["c"]} for value in own] + [
+        {"b": ["b"], "c": ["b", "c"], "a": value} for value in own] + [
+        {"a": ["a"], key: [key]} for key in keys] + [{key: ["a"], "a": ["a"]} for key in keys]
+
+
+def wrong_heads():
+    """Return values that are not heads."""
+    others = ["d", "", "A", "ab", "a ", "a\n", None, 0, 1, True, b"a", [], ["a"], (), ("a",), {}, {"a": 1}, {"a"},
+              object(), Agreeable(), Unhashable()]
+    keys = WRONG_NAMES + [1, True, None, b"d", ("d",), ()]
+    return odd_values() + [
+        {}, [], (), "", "ab", {Agreeable(): "a"}, {"b": "b", Agreeable(): "b"}, ["a", "b"], [("a", "a")], (("a", "a"),), {"a"}, {name: name for name in TWENTY_ONE},
+        {name: "a" for name in TWENTY_ONE}, {"a": "b"}, {"a": "b", "c": "c"}, {"a": ["b"], "b": ["b"]},
+    ] + [{"a": "b", "b": "a", "c": value} for value in others] + [{"c": value, "a": "a", "b": "c"} for value in others] + [
+        {"a": "a", key: "a"} for key in keys] + [{key: key, "a": "a"} for key in keys]
+
+
+def wrong_groups():
+    """Return values that are not a tuple of one or more different ones of FOLDERS."""
+    return wrong_having() + [()]
+
+
+def wrong_integers(least, most):
+    """Return values that are not an integer from least to most."""
+    beyond = [least - 1, least - 2, -most, -10 ** 30, most + 1, most + 2, 10 ** 59, 10 ** 60 - 1, -10 ** 59]
+    numbers = [str(least), str(most), [least], (least,), {least}, {least: least}, b"1", range(least, most)]
+    kinds = [value for value in odd_values() if type(value) is not int]
+    return kinds + numbers + [value for value in beyond if not least <= value <= most]
+
+
+def wrong_lists_of(name):
+    """Return values that are not a list of one of FOLDERS."""
+    other = "abc".replace(name, "")
+    kinds = [value for value in odd_values() if type(value) is not list or name not in value]
+    return kinds + [
+        name, (name,), {name: 1}, {name}, (name, other[0]), FOLDERS, "abc", iter((name,)), {name: [name]}, [],
+        [other[0]], list(other), list(other[::-1]), [name, name], [name, other[0], name], [other[0], other[0], name],
+        [name, "d"], ["d", name], list("abcd"), list("abca"), [name] * 300, [[name]], [(name,)], [name, [other[0]]],
+        [name, None], [name, 1], [name, True], [None, name], [name, b"a"], [name, ""], [name, "A"], [name, name + " "],
+        [name, Agreeable()], [Agreeable()], [Agreeable(), name], [name, Unhashable()], [name + other],
+    ]
+
+
 def many_files(number):
     """Return so many files of a folder."""
     return {f"f{index}": f"text {index}" for index in range(number)}
@@ -192,6 +252,21 @@ def copied(contents, script):
             if word == "over" or path not in now[target]:
                 now[target][path] = now[source][path]
     return now
+
+
+def behind(lists, script):
+    """Return the lists behind further copies, made one by one."""
+    now = {name: list(names) for name, names in lists.items()}
+    for word, source, target in script:
+        both = now[source] + now[target] if word == "over" else now[target] + now[source]
+        now[target] = sorted(set(both), key=both.index)
+    return now
+
+
+def ring_turn(ring, spare):
+    """Return copies that give each folder of a ring the files of the next one, with the help of a spare folder."""
+    turn = [("over", following, name) for name, following in zip(ring, ring[1:])]
+    return (("over", ring[0], spare), *turn, ("over", spare, ring[-1]))
 
 
 def inner(value):

@@ -6,22 +6,34 @@ import inspect
 import itertools
 import unittest
 
-from copyover.errors import CopyError, InvalidContents, InvalidCopy, InvalidFolders, InvalidHaving, InvalidName
-from copyover.errors import InvalidScript
-from tests.helper import (CONTENTS, FOLDERS, TURN, TWENTY, Case, foreign_scripts, inner, wrong_contents, wrong_copies,
-                          wrong_folders, wrong_having, wrong_of_folders, wrong_scripts)
+from copyover.errors import (CopyError, InvalidContents, InvalidCopy, InvalidFolders, InvalidGroup, InvalidHaving,
+                             InvalidHeads, InvalidLength, InvalidLists, InvalidName, InvalidNumber, InvalidScript,
+                             InvalidTimes, InvalidWanted, NotList)
+from tests.helper import (CONTENTS, FOLDERS, TURN, TWENTY, Case, foreign_scripts, inner, odd_values, wrong_contents,
+                          wrong_copies, wrong_folders, wrong_groups, wrong_having, wrong_heads, wrong_integers,
+                          wrong_lists, wrong_lists_of, wrong_of_folders, wrong_scripts)
 
-# The good values of each parameter of FOLDERS, and a few wrong ones with the error that they raise.
+# The good values of each parameter of FOLDERS, and many wrong ones with the error that they raise.
 GOOD = {
     "folders": FOLDERS, "copies": TURN, "other": TURN[::-1], "name": "b", "having": ("c", "b"), "contents": CONTENTS,
     "copy": ("over", "a", "c"), "other_copy": ("skip", "b", "c"), "value": CONTENTS,
+    "lists": {"a": ["b", "a"], "b": ["a", "c", "b"], "c": ["a", "c"]},
+    "other_lists": {"a": ["a"], "b": ["c", "b"], "c": ["c"]}, "times": 5,
+    "wanted": ("c", "a", "b"), "group": ("b", "c"), "heads": {"a": "b", "b": "a", "c": "d", "d": "d"},
+    "length": 2, "number": 3,
 }
+GOOD_VALUES = {"list_number": ["c", "b"], "is_trimmed": TURN}
 WRONG = {
     "folders": (InvalidFolders, wrong_folders), "copies": (InvalidScript, wrong_scripts),
     "other": (InvalidScript, wrong_scripts), "name": (InvalidName, wrong_of_folders),
     "having": (InvalidHaving, wrong_having), "contents": (InvalidContents, wrong_contents),
     "copy": (InvalidCopy, wrong_copies), "other_copy": (InvalidCopy, wrong_copies),
+    "lists": (InvalidLists, wrong_lists), "other_lists": (InvalidLists, wrong_lists),
+    "times": (InvalidTimes, lambda: wrong_integers(0, 10 ** 30)), "wanted": (InvalidWanted, wrong_folders),
+    "group": (InvalidGroup, wrong_groups), "heads": (InvalidHeads, wrong_heads),
+    "length": (InvalidLength, lambda: wrong_integers(1, 3)), "number": (InvalidNumber, lambda: wrong_integers(0, 3)),
 }
+WRONG_VALUES = {"list_number": (NotList, lambda: wrong_lists_of("b"))}
 INTERFACE = {
     "copies": {
         "is_copy": ("value",), "is_script": ("value",), "lists_of": ("folders", "copies"),
@@ -33,6 +45,22 @@ INTERFACE = {
     "alike": {
         "do_same": ("folders", "copies", "other"), "telling_contents": ("folders", "copies", "other"),
         "commute": ("copy", "other_copy"),
+    },
+    "repeats": {
+        "joined": ("lists", "other_lists"), "lists_after": ("folders", "copies", "times"),
+        "settling": ("folders", "copies"),
+    },
+    "plans": {
+        "fewest_shared": ("wanted", "group"), "plan_shared": ("wanted", "group"), "are_possible": ("heads",),
+        "fewest_for_heads": ("heads",), "plan_for_heads": ("heads",),
+    },
+    "counting": {
+        "count_lists": ("folders", "name", "length"), "nth_list": ("folders", "name", "length", "number"),
+        "list_number": ("folders", "name", "value"),
+    },
+    "trimming": {
+        "idle_copies": ("folders", "copies"), "trimmed": ("folders", "copies"),
+        "is_trimmed": ("folders", "copies", "value"),
     },
 }
 
@@ -46,9 +74,24 @@ def functions():
     return found
 
 
-def good_values(parameters):
-    """Return new good values of some parameters."""
-    return [copy.deepcopy(GOOD[parameter]) for parameter in parameters]
+def good_values(function, parameters):
+    """Return new good values of the parameters of a function."""
+    good = {**GOOD, "value": GOOD_VALUES.get(function.__name__, GOOD["value"])}
+    return [copy.deepcopy(good[parameter]) for parameter in parameters]
+
+
+def wrong_kind(function, parameter):
+    """Return the error for wrong values of a parameter and a function that makes some, or None if none is wrong."""
+    if parameter == "value":
+        return WRONG_VALUES.get(function.__name__)
+    return WRONG[parameter]
+
+
+def turned(value):
+    """Return a value in which the keys of each dict stand the other way round."""
+    if isinstance(value, dict):
+        return {key: turned(value[key]) for key in reversed(value)}
+    return value
 
 
 class Interface(Case):
@@ -65,7 +108,7 @@ class Interface(Case):
 
     def test_by_position_and_by_name(self):
         for function, parameters in functions():
-            values = good_values(parameters)
+            values = good_values(function, parameters)
             answer = function(*values)
             named = dict(zip(parameters, values))
             self.assertEqual(function(**named), answer)
@@ -78,7 +121,7 @@ class Interface(Case):
 class Arguments(Case):
     def test_stay_as_they_are(self):
         for function, parameters in functions():
-            values = good_values(parameters)
+            values = good_values(function, parameters)
             before = repr(values)
             function(*values)
             self.assertEqual(repr(values), before)
@@ -86,19 +129,19 @@ class Arguments(Case):
     def test_stay_as_they_are_behind_an_error(self):
         for function, parameters in functions():
             for parameter in parameters:
-                if parameter == "value":
+                if wrong_kind(function, parameter) is None:
                     continue
-                values = good_values(parameters)
-                values[parameters.index(parameter)] = {"a": {"y": "1", "x": []}}
+                values, place = good_values(function, parameters), parameters.index(parameter)
+                values[place] = {"a": {"y": "1", "x": []}}
                 before = repr(values)
                 self.assertRaises(CopyError, function, *values)
                 self.assertEqual(repr(values), before)
-                values[parameters.index(parameter)] = copy.deepcopy(GOOD[parameter])
-                self.assertEqual(function(*values), function(*good_values(parameters)))
+                values[place] = good_values(function, parameters)[place]
+                self.assertEqual(function(*values), function(*good_values(function, parameters)))
 
     def test_no_part_of_an_argument_is_returned(self):
         for function, parameters in functions():
-            values = good_values(parameters)
+            values = good_values(function, parameters)
             parts = [id(part) for value in values for part in inner(value)]
             self.assertFalse([part for part in inner(function(*values)) if id(part) in parts])
 
@@ -121,8 +164,8 @@ class Arguments(Case):
 class Results(Case):
     def test_equal_calls_return_equal_and_new_results(self):
         for function, parameters in functions():
-            values = good_values(parameters)
-            first, second, third = function(*values), function(*values), function(*good_values(parameters))
+            values = good_values(function, parameters)
+            first, second, third = function(*values), function(*values), function(*good_values(function, parameters))
             self.assertEqual(repr(first), repr(second))
             self.assertEqual(repr(first), repr(third))
             parts = inner(first) + inner(second) + inner(third)
@@ -130,11 +173,11 @@ class Results(Case):
 
     def test_results_that_are_changed_later(self):
         for function, parameters in functions():
-            first = function(*good_values(parameters))
+            first = function(*good_values(function, parameters))
             kept = copy.deepcopy(first)
             for part in inner(first):
                 part.clear()
-            self.assertEqual(function(*good_values(parameters)), kept)
+            self.assertEqual(function(*good_values(function, parameters)), kept)
 
     def test_inner_lists_and_dicts_are_different_ones(self):
         module = importlib.import_module("copyover.copies")
@@ -152,12 +195,20 @@ class Results(Case):
 
     def test_keys_ascend(self):
         for function, parameters in functions():
-            values = dict(zip(parameters, good_values(parameters)))
+            values = dict(zip(parameters, good_values(function, parameters)))
             if "folders" in values:
                 values["folders"] = ("zz", "c", "aa", "b", "a", "ab")
+            for name in ("lists", "other_lists", "heads"):
+                if name in values:
+                    values[name] = turned(values[name])
             if "contents" in values:
                 values["contents"] = {"zz": {"y": "1", "x": "2"}, "b": {"x": "3"}, "a": {}, "c": {"z": "4", "b": "5"}}
             self.check_ascending(function(**values))
+
+    def test_order_of_the_keys_of_a_dict_does_not_matter(self):
+        for function, parameters in functions():
+            values = good_values(function, parameters)
+            self.assertEqual(repr(function(*[turned(value) for value in values])), repr(function(*values)))
 
     def test_good_values_raise_no_error_somewhat_beyond_the_limits(self):
         module = importlib.import_module("copyover.contents")
@@ -169,11 +220,11 @@ class Errors(Case):
     def test_each_wrong_argument(self):
         for function, parameters in functions():
             for place, parameter in enumerate(parameters):
-                if parameter == "value":
+                if wrong_kind(function, parameter) is None:
                     continue
-                error, make = WRONG[parameter]
+                error, make = wrong_kind(function, parameter)
                 for value in make():
-                    values = good_values(parameters)
+                    values = good_values(function, parameters)
                     values[place] = value
                     self.check_raises(error, function, *values)
                     self.check_raises(error, function, **dict(zip(parameters, values)))
@@ -184,17 +235,17 @@ class Errors(Case):
                 if parameter not in ("copies", "other"):
                     continue
                 for script in foreign_scripts():
-                    values = good_values(parameters)
+                    values = good_values(function, parameters)
                     values[place] = script
                     self.check_raises(InvalidScript, function, *values)
 
     def test_the_first_of_two_wrong_arguments(self):
         for function, parameters in functions():
             for first, second in itertools.combinations(range(len(parameters)), 2):
-                error, make = WRONG[parameters[first]]
-                _, make_other = WRONG[parameters[second]]
+                error, make = wrong_kind(function, parameters[first])
+                _, make_other = wrong_kind(function, parameters[second]) or (None, odd_values)
                 for value, other in itertools.product(make()[::25], make_other()[::25]):
-                    values = good_values(parameters)
+                    values = good_values(function, parameters)
                     values[first], values[second] = value, other
                     self.check_raises(error, function, *values)
 
