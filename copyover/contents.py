@@ -28,6 +28,12 @@ def are_contents(value):
     return has_names(value) and all([are_files(files) for files in value.values()])
 
 
+def check_contents(contents):
+    """Raise InvalidContents if a value is not contents."""
+    if not are_contents(contents):
+        raise InvalidContents("contents are a dict from 1 to 20 names to at most 40 files each")
+
+
 def sorted_files(files):
     """Return a new dict of the files in which their paths ascend."""
     return {path: files[path] for path in sorted(files)}
@@ -35,8 +41,7 @@ def sorted_files(files):
 
 def run(contents, copies):
     """Return the contents behind a script."""
-    if not are_contents(contents):
-        raise InvalidContents("contents are a dict from 1 to 20 names to at most 40 files each")
+    check_contents(contents)
     check_script(copies, tuple(contents))
     now = {name: contents[name] for name in sorted(contents)}
     for word, source, target in copies:

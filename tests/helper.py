@@ -201,6 +201,30 @@ def wrong_lists_of(name):
     ]
 
 
+def not_strings():
+    """Return values of all kinds but strings."""
+    return [value for value in odd_values() if not isinstance(value, str)] + [(), ("a",), [("over", "a", "b")]]
+
+
+def wrong_reports():
+    """Return values that are not reports with folders of FOLDERS."""
+    good = (("a", "b"), "a")
+    having = [(), ["a"], {"a"}, {"a": 1}, "a", "ab", b"a", None, 0, True, ("d",), ("a", "d"), ("a", "a"),
+              ("a", "b", "a"), ("a", None), ("a", 1), ("a", b"b"), ("a", ["b"]), (("a", "b"),), ("a", "A"), ("a", ""),
+              ("a", "a "), iter(("a",)), object(), Agreeable(), Unhashable(), ("a", Agreeable()), ("a", Unhashable()),
+              FOLDERS * 2]
+    seen = ["c", "d", "", "A", "ab", "a ", "a\n", 0, 1, True, False, b"a", [], ["a"], (), ("a",), {}, {"a": 1}, {"a"},
+            object(), Agreeable(), Unhashable()]
+    reports = [(), ("a",), (("a", "b"),), (("a", "b"), "a", None), (("a", "b"), "a", "b"), [("a", "b"), "a"], None,
+               "ab", ("a", ("a", "b")), ("a", "b"), ("a", "a"), {("a", "b"): "a"}, {"a", "b"}, (good,),
+               (good, good), 0, True, Agreeable(), Unhashable(), iter(good)]
+    reports = reports + [(value, "a") for value in having] + [(value, None) for value in having]
+    reports = reports + [(("b", "a"), value) for value in seen]
+    return odd_values() + [
+        good, [], [good], {}, {good}, {good: 1}, {0: good}, iter((good,)), iter(()), (good,) * 41, (good,) * 300,
+    ] + [(value,) for value in reports] + [(good, value) for value in reports] + [(value, good) for value in reports]
+
+
 def many_files(number):
     """Return so many files of a folder."""
     return {f"f{index}": f"text {index}" for index in range(number)}

@@ -7,11 +7,11 @@ import itertools
 import unittest
 
 from copyover.errors import (CopyError, InvalidContents, InvalidCopy, InvalidFolders, InvalidGroup, InvalidHaving,
-                             InvalidHeads, InvalidLength, InvalidLists, InvalidName, InvalidNumber, InvalidScript,
-                             InvalidTimes, InvalidWanted, NotList)
-from tests.helper import (CONTENTS, FOLDERS, TURN, TWENTY, Case, foreign_scripts, inner, odd_values, wrong_contents,
-                          wrong_copies, wrong_folders, wrong_groups, wrong_having, wrong_heads, wrong_integers,
-                          wrong_lists, wrong_lists_of, wrong_of_folders, wrong_scripts)
+                             InvalidHeads, InvalidLength, InvalidLists, InvalidName, InvalidNumber, InvalidReports,
+                             InvalidScript, InvalidTimes, InvalidWanted, InvalidWords, NotList)
+from tests.helper import (CONTENTS, FOLDERS, TURN, TWENTY, Case, foreign_scripts, inner, not_strings, odd_values,
+                          wrong_contents, wrong_copies, wrong_folders, wrong_groups, wrong_having, wrong_heads,
+                          wrong_integers, wrong_lists, wrong_lists_of, wrong_of_folders, wrong_reports, wrong_scripts)
 
 # The good values of each parameter of FOLDERS, and many wrong ones with the error that they raise.
 GOOD = {
@@ -20,9 +20,11 @@ GOOD = {
     "lists": {"a": ["b", "a"], "b": ["a", "c", "b"], "c": ["a", "c"]},
     "other_lists": {"a": ["a"], "b": ["c", "b"], "c": ["c"]}, "times": 5,
     "wanted": ("c", "a", "b"), "group": ("b", "c"), "heads": {"a": "b", "b": "a", "c": "d", "d": "d"},
-    "length": 2, "number": 3,
+    "length": 2, "number": 3, "reports": ((("a", "c"), "a"), (("b", "a"), "b"), (("c",), "c")),
 }
-GOOD_VALUES = {"list_number": ["c", "b"], "is_trimmed": TURN}
+# The good values of those parameters that differ from function to function.
+GOOD_VALUES = {"list_number": ["c", "b"], "is_trimmed": TURN, "is_contradiction": ("ring", (0, 1))}
+GOOD_TEXTS = {"parse_script": "a>c b+a c>b", "parse_lists": "a: b c a\nb: b\nc: a c"}
 WRONG = {
     "folders": (InvalidFolders, wrong_folders), "copies": (InvalidScript, wrong_scripts),
     "other": (InvalidScript, wrong_scripts), "name": (InvalidName, wrong_of_folders),
@@ -32,6 +34,7 @@ WRONG = {
     "times": (InvalidTimes, lambda: wrong_integers(0, 10 ** 30)), "wanted": (InvalidWanted, wrong_folders),
     "group": (InvalidGroup, wrong_groups), "heads": (InvalidHeads, wrong_heads),
     "length": (InvalidLength, lambda: wrong_integers(1, 3)), "number": (InvalidNumber, lambda: wrong_integers(0, 3)),
+    "reports": (InvalidReports, wrong_reports), "text": (InvalidWords, lambda: not_strings() + ["a", " ", "a:b", "\n"]),
 }
 WRONG_VALUES = {"list_number": (NotList, lambda: wrong_lists_of("b"))}
 INTERFACE = {
@@ -62,6 +65,13 @@ INTERFACE = {
         "idle_copies": ("folders", "copies"), "trimmed": ("folders", "copies"),
         "is_trimmed": ("folders", "copies", "value"),
     },
+    "reports": {
+        "contradiction": ("folders", "name", "reports"), "explaining_list": ("folders", "name", "reports"),
+        "is_contradiction": ("folders", "name", "reports", "value"),
+    },
+    "texts": {
+        "format_script": ("copies",), "parse_script": ("text",), "format_lists": ("lists",), "parse_lists": ("text",),
+    },
 }
 
 
@@ -76,7 +86,8 @@ def functions():
 
 def good_values(function, parameters):
     """Return new good values of the parameters of a function."""
-    good = {**GOOD, "value": GOOD_VALUES.get(function.__name__, GOOD["value"])}
+    good = {**GOOD, "value": GOOD_VALUES.get(function.__name__, GOOD["value"]),
+            "text": GOOD_TEXTS.get(function.__name__)}
     return [copy.deepcopy(good[parameter]) for parameter in parameters]
 
 
@@ -232,7 +243,7 @@ class Errors(Case):
     def test_scripts_of_other_folders(self):
         for function, parameters in functions():
             for place, parameter in enumerate(parameters):
-                if parameter not in ("copies", "other"):
+                if parameter not in ("copies", "other") or parameters == ("copies",):
                     continue
                 for script in foreign_scripts():
                     values = good_values(function, parameters)
@@ -253,7 +264,7 @@ class Errors(Case):
         for function, parameters in functions():
             if parameters == ("value",):
                 continue
-            for wrong in (None, 0, True, "", b"", ["a"], {1}, object()):
+            for wrong in (None, 0, True, " ", b"", ["a"], {1}, object()):
                 self.check_raises(WRONG[parameters[0]][0], function, *[wrong] * len(parameters))
 
 
